@@ -100,7 +100,7 @@ func (l *lay) names(p *[]string) {
 
 func (l *lay) data(p *[]byte) { l.bytes = little.Data(l.bytes, *p) }
 
-// read is a hand that reads fields, and keeps the first error.
+// read is a hand that reads fields, and keeps the first error that its reader does not tell.
 type read struct {
 	from  *little.Reader
 	errno api.Errno
@@ -117,7 +117,6 @@ func (r *read) number(p *int, bits int) {
 	default:
 		*p = int(r.from.U64())
 	}
-	r.keep(r.from.Errno())
 }
 
 func (r *read) size(p *int) {
@@ -127,10 +126,7 @@ func (r *read) size(p *int) {
 	}
 }
 
-func (r *read) text(p *string) {
-	*p = r.from.Text()
-	r.keep(r.from.Errno())
-}
+func (r *read) text(p *string) { *p = r.from.Text() }
 
 func (r *read) names(p *[]string) {
 	n := 0
@@ -146,10 +142,7 @@ func (r *read) names(p *[]string) {
 	}
 }
 
-func (r *read) data(p *[]byte) {
-	*p = r.from.Data(api.MaxMsize)
-	r.keep(r.from.Errno())
-}
+func (r *read) data(p *[]byte) { *p = r.from.Data(api.MaxMsize) }
 
 func (r *read) keep(e api.Errno) {
 	if r.errno == api.OK {

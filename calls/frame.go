@@ -121,20 +121,16 @@ func (l *lay) handle(p *api.Handle) {
 func (l *lay) text(p *string) { l.bytes = xdr.Text(l.bytes, []byte(*p)) }
 func (l *lay) data(p *[]byte) { l.bytes = xdr.Text(l.bytes, *p) }
 
-// read is a hand that reads fields, and keeps the first error.
+// read is a hand that reads fields, and keeps the first error that its reader does not tell.
 type read struct {
 	from  *xdr.Reader
 	errno api.Errno
 }
 
-func (r *read) number(p *int) {
-	*p = int(r.from.U32())
-	r.keep(r.from.Errno())
-}
+func (r *read) number(p *int) { *p = int(r.from.U32()) }
 
 func (r *read) place(p *int) {
 	n := r.from.U64()
-	r.keep(r.from.Errno())
 	if n > maxOff {
 		r.keep(api.ErrRange)
 	}
@@ -146,15 +142,8 @@ func (r *read) handle(p *api.Handle) {
 	r.number(&p.Gen)
 }
 
-func (r *read) text(p *string) {
-	*p = string(r.from.Text(maxText))
-	r.keep(r.from.Errno())
-}
-
-func (r *read) data(p *[]byte) {
-	*p = r.from.Text(api.MaxFile)
-	r.keep(r.from.Errno())
-}
+func (r *read) text(p *string) { *p = string(r.from.Text(maxText)) }
+func (r *read) data(p *[]byte) { *p = r.from.Text(api.MaxFile) }
 
 func (r *read) keep(e api.Errno) {
 	if r.errno == api.OK {

@@ -519,6 +519,10 @@ func TestReadDirectory(t *testing.T) {
 		}
 		return s
 	}
+	for _, off := range []int{1, 11, 1 << 62} {
+		w.refused(api.BadCookie, api.Ask{Type: api.Tread, Fid: 1, Off: off, Count: 1000})
+		w.calls()
+	}
 	w.made(api.Create, w.d, "g")
 	for _, c := range []struct {
 		off, count, from int

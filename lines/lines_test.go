@@ -212,16 +212,26 @@ func TestForge(t *testing.T) {
 func TestReplyTooGreat(t *testing.T) {
 	s := New()
 	talk(t, s, [][2]string{{"attach 1 -", "sent 0"}, {"create 1 f 420 2", "sent 1"}, {"write 1 0 abc", "sent 2"}, {"all", "3"}, {"out", "0:attach,d1.1 1:create,f2.1 2:write,3"}}...)
-	body, _ := answers.Write(api.Read, api.Res{Data: make([]byte, 1020), Count: 1020})
-	rec := rpc.Write(rpc.Msg{Reply: true, Xid: 5, Proc: api.Read, Body: body})
-	rec = append([]byte{128, 0, byte(len(rec) >> 8), byte(len(rec))}, rec...)
-	talk(t, s, [][2]string{{"read 1 0 3", "sent 3"}, {"read 1 0 3", "sent 4"}, {"read 1 1 3", "sent 5"}, {"serve 0", "ok"}}...)
-	for len(rec) > 0 {
-		n := min(300, len(rec))
-		talk(t, s, [2]string{"junk " + name.Print(string(rec[:n])), "ok"})
-		rec = rec[n:]
+	junk := func(xid uint32, n int) { // a forged reply of n bytes of data, in parts
+		t.Helper()
+		body, _ := answers.Write(api.Read, api.Res{Data: make([]byte, n), Count: n})
+		rec := rpc.Write(rpc.Msg{Reply: true, Xid: xid, Proc: api.Read, Body: body})
+		rec = append([]byte{128, 0, byte(len(rec) >> 8), byte(len(rec))}, rec...)
+		for len(rec) > 0 {
+			n := min(300, len(rec))
+			talk(t, s, [2]string{"junk " + name.Print(string(rec[:n])), "ok"})
+			rec = rec[n:]
+		}
 	}
+	talk(t, s, [][2]string{{"read 1 0 3", "sent 3"}, {"read 1 0 3", "sent 4"}, {"read 1 1 3", "sent 5"}, {"serve 0", "ok"}}...)
+	junk(5, 1014)
 	talk(t, s, [][2]string{{"all", "2"}, {"out", "3:read,abc"}, {"out", "none"}, {"state", "0 6 1 alive"}, {"read 1 1 3", "sent 6"}, {"all", "1"}, {"out", "6:read,bc"}}...)
+	junk(8, 1013)
+	talk(t, s, [][2]string{{"read 1 0 3", "sent 7"}, {"all", "1"}, {"out", "7:read," + strings.Repeat("%00", 1013)}}...)
+	junk(9, 1024)
+	talk(t, s, [][2]string{{"read 1 0 3", "sent 8"}, {"all", "1"}, {"out", "none"}, {"state", "0 9 3 alive"}}...)
+	junk(10, 1025)
+	talk(t, s, [][2]string{{"read 1 0 3", "sent 9"}, {"read 1 0 3", "sent 10"}, {"all", "2"}, {"out", "10:read,abc"}}...)
 }
 
 // P24.1: new.

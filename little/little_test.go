@@ -130,6 +130,9 @@ func TestRead(t *testing.T) {
 	if r.End() != api.ErrForm || r.End() != api.ErrForm || r.Errno() != api.OK {
 		t.Error("End changes something", r.End(), r.Errno())
 	}
+	if r := Read([]byte{1}); r.End() != api.ErrForm || r.U8() != 1 || r.End() != api.OK {
+		t.Error("a byte that is left", r.End())
+	}
 	if string(r.Data(3)) != "cde" || r.Errno() != api.OK || r.End() != api.OK {
 		t.Error("data", r.Errno())
 	}

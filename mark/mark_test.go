@@ -33,6 +33,15 @@ func TestSizes(t *testing.T) {
 	}
 }
 
+// Of other numbers nothing is promised; but no call panics or goes on for ever (R1).
+func TestSizesOfNone(t *testing.T) {
+	for _, c := range [][2]int{{5, 0}, {5, -1}, {-1, 5}, {0, 0}, {math.MinInt, math.MinInt}, {5, math.MinInt}, {math.MinInt, 1}} {
+		if got := Sizes(c[0], c[1]); len(got) != 0 {
+			t.Error(c, got)
+		}
+	}
+}
+
 // P3.1: the fragments of a record.
 func TestMark(t *testing.T) {
 	for _, c := range []struct {
@@ -93,6 +102,7 @@ func TestAll(t *testing.T) {
 		{nil, nil, "", api.OK},
 		{[]int{0}, nil, "", api.OK},
 		{nil, []string{"ab", ""}, "\x80\x00\x00\x02ab\x80\x00\x00\x00", api.OK},
+		{[]int{2}, []string{"abc", "d"}, "\x00\x00\x00\x02ab\x80\x00\x00\x01c\x80\x00\x00\x01d", api.OK},
 		{[]int{1, 2}, []string{"ab", "cd", "ef"}, "\x00\x00\x00\x01a\x80\x00\x00\x01b\x80\x00\x00\x02cd\x00\x00\x00\x01e\x80\x00\x00\x01f", api.OK},
 		{[]int{1, 2, 0}, []string{"a", "b"}, "\x80\x00\x00\x01a\x80\x00\x00\x01b", api.OK},
 		{[]int{1, 0}, []string{"a", "b", "c"}, "", api.ErrArg},

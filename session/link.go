@@ -42,10 +42,7 @@ type link struct {
 
 // connect is the streams of a script to a server; ErrArg, if they may not be.
 func connect(server *serve.Server, s Script) (*link, api.Errno) {
-	to, e := newStream(s.Back)
-	if e != api.OK {
-		return nil, e
-	}
+	to, _ := newStream(s.Back)
 	back, e := newStream(s.Back)
 	if e != api.OK {
 		return nil, e

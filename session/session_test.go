@@ -511,6 +511,11 @@ func TestForgeErrors(t *testing.T) {
 	if x := do(t, s, stat); x.Stat.Qid != rootQid || s.Dropped() != 1 {
 		t.Errorf("%+v, dropped %d", x, s.Dropped())
 	}
+	s.Junk(zeros(63))
+	s.Forge(long)
+	if x := do(t, s, stat); x.Stat.Qid != rootQid || s.Dropped() != 2 {
+		t.Errorf("what is forged is not cut by 4096: %+v, dropped %d", x, s.Dropped())
+	}
 	junk := []byte{0, 0, 0, 0}
 	s.Junk(junk)
 	junk[0] = 255

@@ -53,7 +53,7 @@ func layStat(b []byte, s api.Stat) []byte {
 	return little.Text(little.U64(b, uint64(s.Size)), s.Name)
 }
 
-// reader reads fields, and keeps the first error.
+// reader reads fields, and keeps the first error that what it reads from does not tell.
 type reader struct {
 	from  *little.Reader
 	errno api.Errno
@@ -82,7 +82,6 @@ func (r *reader) read(t api.Tell, f field) api.Tell {
 	case stat:
 		t.Stat = r.stat()
 	}
-	r.keep(r.from.Errno())
 	return t
 }
 

@@ -200,6 +200,7 @@ func TestReadErrors(t *testing.T) {
 		{"first byte of a qid, and short then", message(105, odd[:12]), api.ErrShort},
 		{"first byte of a qid, and short behind it", message(113, odd+"\x00"), api.ErrShort},
 		{"first byte of the second qid", message(111, "\x02\x00"+folderBytes+odd), api.ErrForm},
+		{"first byte of the first qid", message(111, "\x02\x00"+odd+folderBytes), api.ErrForm},
 		{"first byte of the first qid, and short then", message(111, "\x02\x00"+odd+folderBytes[:5]), api.ErrShort},
 		{"first byte of a stat's qid", message(125, odd+string(make([]byte, 14))), api.ErrForm},
 		{"nine qids", message(111, "\x09\x00"+strings.Repeat(folderBytes, 9)), api.ErrRange},

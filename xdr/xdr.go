@@ -78,7 +78,7 @@ func (r *Reader) U64() uint64 {
 // Text is the next text, which has at most so many bytes.
 func (r *Reader) Text(most int) []byte {
 	n := int(r.U32())
-	if r.first == api.OK && n > most {
+	if n > most {
 		r.fail(api.ErrRange)
 	}
 	b, ok := r.take(n + padding(n))
@@ -115,15 +115,15 @@ func (r *Reader) Errno() api.Errno {
 
 // End is the first error; bytes that are left are one, too.
 func (r *Reader) End() api.Errno {
-	if r.first == api.OK && len(r.rest) > 0 {
+	if len(r.rest) > 0 { // none are behind an error
 		return api.ErrForm
 	}
 	return r.first
 }
 
-// take is the next n bytes, behind which the reader is then; none, and false, behind an error or if there are fewer.
+// take is the next n bytes, behind which the reader is then; none, and false, if there are fewer, as behind an error.
 func (r *Reader) take(n int) ([]byte, bool) {
-	if r.first != api.OK || len(r.rest) < n {
+	if len(r.rest) < n {
 		r.fail(api.ErrShort)
 		return nil, false
 	}

@@ -116,7 +116,7 @@ func TestReadTextIsNew(t *testing.T) {
 // P1.2: too few bytes for a number are ErrShort, another number than 0 and 1 is no yes or no.
 func TestReadErrors(t *testing.T) {
 	for n := range 8 {
-		r := Read(make([]byte, n))
+		r := Read(bytes.Repeat([]byte{1}, n))
 		if r.U64() != 0 || r.Errno() != api.ErrShort || r.Left() != 0 {
 			t.Error("U64 of", n, r.Errno(), r.Left())
 		}
@@ -171,6 +171,14 @@ func TestEnd(t *testing.T) {
 	}
 	if r.U32() != 7 || r.End() != api.ErrForm || r.U32() != 8 || r.End() != api.OK {
 		t.Error("End changes something")
+	}
+	r = Read([]byte{0, 0, 0, 0, 0, 0, 0, 3, 1})
+	if r.U64() != 3 || r.End() != api.ErrForm || r.Left() != 1 {
+		t.Error("a byte is left", r.End(), r.Left())
+	}
+	r = Read([]byte{0, 0, 0, 0, 0, 0, 0, 3})
+	if r.U64() != 3 || r.End() != api.OK {
+		t.Error("nothing is left", r.End())
 	}
 	if r := Read(nil); r.End() != api.OK || r.Left() != 0 || r.Errno() != api.OK {
 		t.Error("nothing to read is an error")
